@@ -1,0 +1,1 @@
+"""Rules with exceptions that can be swapped for others."""
