@@ -30,6 +30,10 @@ def is_pair(atoms, thing):
     return is_set(atoms, small) and is_set(atoms, large) and is_within(small, large)
 
 
+def are_pairs(atoms, thing):
+    return isinstance(thing, tuple) and all([is_pair(atoms, part) for part in thing])
+
+
 def fits_rule(pair, rule):
     small, large = pair
     if not remains(rule, large):
@@ -55,11 +59,7 @@ def fits(book, thing):
 
 def is_table(atoms, thing):
     check_atoms(atoms)
-    if not isinstance(thing, tuple):
-        return False
-    if not all([is_pair(atoms, part) for part in thing]):
-        return False
-    return is_ascending(thing) and is_closed(thing)
+    return are_pairs(atoms, thing) and is_ascending(thing) and is_closed(thing)
 
 
 def is_closed(found):

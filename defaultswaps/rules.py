@@ -80,6 +80,25 @@ def check_set(atoms, thing):
         raise SetError("not a set of the atoms")
 
 
+def check_book_and_set(book, chosen):
+    check_book(book)
+    check_set(book[0], chosen)
+
+
+def is_rule_of(book, thing):
+    # Its form comes first: to Python a rule with a bool equals one with an integer.
+    return has_rule_form(book[0], thing) and thing in book[1]
+
+
+def facts_of(chosen):
+    return tuple([(atom, (), ()) for atom in chosen])
+
+
+def round_of(members):
+    """Return the rules by which each of the members brings all others."""
+    return tuple([(head, (atom,), ()) for head in members for atom in members if head != atom])
+
+
 def is_within(small, large):
     return all([atom in large for atom in small])
 
@@ -98,19 +117,23 @@ def violates(chosen, rule):
 
 
 def remaining(book, chosen):
-    check_book(book)
-    check_set(book[0], chosen)
+    check_book_and_set(book, chosen)
     return tuple([rule for rule in book[1] if remains(rule, chosen)])
 
 
 def violated(book, chosen):
-    check_book(book)
-    check_set(book[0], chosen)
+    check_book_and_set(book, chosen)
     return tuple([rule for rule in book[1] if violates(chosen, rule)])
 
 
 def least(book, chosen):
-    return least_obeying([rule for rule in remaining(book, chosen) if rule[0] is not None])
+    check_book_and_set(book, chosen)
+    return least_at(book[1], chosen)
+
+
+def least_at(rules, chosen):
+    """Return the least set for rules of any number: a union may have more than a rulebook."""
+    return least_obeying([rule for rule in rules if rule[0] is not None and remains(rule, chosen)])
 
 
 def least_obeying(rules):

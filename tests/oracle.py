@@ -4,7 +4,8 @@ Nothing here imports the package: what the tests expect does not rest on what th
 """
 
 import random
-from itertools import combinations, product
+from functools import lru_cache
+from itertools import combinations, permutations, product
 
 
 def subsets(things):
@@ -57,6 +58,7 @@ def fits(book, pair):
     return True
 
 
+@lru_cache(maxsize=None)
 def pairs(book):
     return tuple(pair for pair in all_pairs(book[0]) if fits(book, pair))
 
@@ -92,6 +94,116 @@ def rules_of(atoms, table):
     return (atoms, tuple(rules))
 
 
+def union(one, other):
+    return (one[0], one[1] + tuple(rule for rule in other[1] if rule not in one[1]))
+
+
+def facts(atoms, chosen):
+    return (atoms, tuple((a, (), ()) for a in chosen))
+
+
+@lru_cache(maxsize=None)
+def is_settled(book, chosen):
+    return least(book, chosen) == chosen and not any(violates(chosen, rule) for rule in book[1])
+
+
+def settled(book):
+    return tuple(found for found in all_sets(book[0]) if is_settled(book, found))
+
+
+def reason(book, chosen):
+    for rule in book[1]:
+        if violates(chosen, rule):
+            return ("violated", rule)
+    if least(book, chosen) != chosen:
+        return ("smaller", least(book, chosen))
+    order = []
+    while {rule[0] for rule in order} != set(chosen):
+        for rule in book[1]:
+            heads = {taken[0] for taken in order}
+            if remains(rule, chosen) and rule[0] is not None and rule[0] not in heads and set(rule[1]) <= heads:
+                order.append(rule)
+                break
+    return ("settled", tuple(order))
+
+
+def orders(book, chosen):
+    """All tuples that [21] allows behind "settled"."""
+    if any(violates(chosen, rule) for rule in book[1]):
+        return []
+    left = [rule for rule in book[1] if remains(rule, chosen) and rule[0] in chosen]
+    found = []
+    for order in permutations(left, len(chosen)):
+        heads = [rule[0] for rule in order]
+        if sorted(heads) == list(chosen) and all(set(rule[1]) <= set(heads[:k]) for k, rule in enumerate(order)):
+            found.append(order)
+    return found
+
+
+def smaller(book, chosen):
+    return [x for x in all_sets(book[0]) if set(x) < set(chosen) and fits(book, (x, chosen))]
+
+
+def reasons(book, chosen):
+    """Everything that `shows` accepts."""
+    return [
+        *[("violated", rule) for rule in book[1] if violates(chosen, rule)],
+        *[("settled", order) for order in orders(book, chosen)],
+        *[("smaller", x) for x in smaller(book, chosen)],
+    ]
+
+
+def compare(one, other):
+    if pairs(one) == pairs(other):
+        return ("same", pairs(one))
+    atoms = one[0]
+    x, y = min(set(pairs(one)) ^ set(pairs(other)))
+    if fits(one, (y, y)) != fits(other, (y, y)):
+        return ("differ", facts(atoms, y), y)
+    rest = sorted(set(y) - set(x))
+    rules = tuple((a, (b,), ()) for a in rest for b in rest if a != b)
+    return ("differ", (atoms, facts(atoms, x)[1] + rules), y)
+
+
+def differ(one, other, context, chosen):
+    return is_settled(union(one, context), chosen) != is_settled(union(other, context), chosen)
+
+
+def apart(one, other, context):
+    first, second = settled(union(one, context)), settled(union(other, context))
+    return (tuple(sorted(set(first) - set(second))), tuple(sorted(set(second) - set(first))))
+
+
+def kernel(book):
+    found = []
+    for x, y in pairs(book):
+        between = [z for z in all_sets(book[0]) if set(x) < set(z) < set(y) and fits(book, (z, y))]
+        if x == y or not between:
+            found.append((x, y))
+    return tuple(found)
+
+
+def compare_by_facts(one, other):
+    atoms = one[0]
+    if kernel(one) == kernel(other):
+        return ("same", kernel(one))
+    chosen, given = min(
+        (y, f) for y, f in product(all_sets(atoms), all_sets(atoms)) if differ(one, other, facts(atoms, f), y)
+    )
+    return ("differ", given, chosen)
+
+
+def families(atoms):
+    """All ascending tuples of sets none of which is within another one."""
+    found = [()]
+    for chosen in all_sets(atoms):
+        found += [
+            (*family, chosen) for family in found
+            if not any(set(chosen) <= set(member) or set(member) <= set(chosen) for member in family)
+        ]
+    return found
+
+
 def books_of_one_atom():
     """All rulebooks with one atom, their rules in one order each."""
     return [(1, rules) for rules in subsets_in_order(all_rules(1))]
@@ -101,6 +213,7 @@ def subsets_in_order(things):
     return [found for size in range(len(things) + 1) for found in combinations(things, size)]
 
 
+@lru_cache(maxsize=None)
 def sample_books(many=60):
     """Rulebooks with two to four atoms, of very different lengths; always the same ones."""
     source = random.Random(20)
@@ -116,3 +229,53 @@ def sample_books(many=60):
 
 def many_books():
     return books_of_one_atom() + sample_books()
+
+
+def telling_rules(atoms):
+    """The rules that some set violates or some pair does not fit."""
+    return [
+        (head, holds, fails) for head, holds, fails in all_rules(atoms)
+        if head not in holds and not set(holds) & set(fails)
+    ]
+
+
+def book_keeping(length, seed, *kept):
+    """A rulebook of four atoms, none of whose rules is violated by one of the kept sets."""
+    allowed = [rule for rule in telling_rules(4) if not any(violates(chosen, rule) for chosen in kept)]
+    return (4, tuple(random.Random(seed).sample(allowed, length)))
+
+
+@lru_cache(maxsize=None)
+def settling_books(many=40):
+    """Short rulebooks that have settled sets; always the same ones."""
+    source = random.Random(21)
+    books = []
+    for atoms in (2, 3, 4):
+        rules = [rule for rule in telling_rules(atoms) if len(rule[1]) + len(rule[2]) < 3]
+        found = []
+        while len(found) < many:
+            book = (atoms, tuple(source.sample(rules, source.choice((2, 3, 4, 5, 6)))))
+            # Every third one has several.
+            if len(settled(book)) > (len(found) % 3 == 0):
+                found.append(book)
+        books += found
+    return books
+
+
+@lru_cache(maxsize=None)
+def alike_books(many=15):
+    """Pairs of rulebooks with the same number of atoms: alike or not, some of them nearly."""
+    source = random.Random(40)
+    books = settling_books(many) + sample_books(many)
+    found = []
+    for book in books:
+        atoms, rules = book
+        others = [other for other in books if other[0] == atoms]
+        found += [
+            (book, book), (book, (atoms, rules[::-1])), (book, rules_of(atoms, pairs(book))),
+            (book, (atoms, rules[1:])), (book, (atoms, rules[:-1])), (book, source.choice(others)),
+        ]
+        unused = [rule for rule in all_rules(atoms) if rule not in rules]
+        if unused and len(rules) < 100:
+            found.append(((atoms, (*rules, source.choice(unused))), book))
+    return found

@@ -29,16 +29,6 @@ def sample_tables():
     return [(book[0], oracle.pairs(book)) for book in oracle.sample_books() if book[0] > 2]
 
 
-def wrong_books():
-    book = (2, ((0, (), ()), (1, (0,), (0, 1))))
-    twice = (2, ((0, (), ()), (0, (), ())))
-    many = (4, tuple(oracle.all_rules(4)[:101]))
-    return [
-        *wrong.other_things(), *wrong.with_bools(book), *wrong.with_lists(book),
-        twice, many, (0, ()), (5, ()), (1, ((1, (), ()),)),
-    ]
-
-
 class Interface(unittest.TestCase):
     def test_names_and_arguments(self):
         expected = {
@@ -105,7 +95,7 @@ class Pairs(unittest.TestCase):
             self.assertEqual(pairs((3, order)), oracle.pairs((3, rules)))
 
     def test_book_error(self):
-        for book in wrong_books():
+        for book in wrong.no_rulebooks():
             with self.assertRaises(BookError):
                 pairs(book)
 
@@ -147,7 +137,7 @@ class Fits(unittest.TestCase):
                 self.assertIs(fits(book, (thing, (0,))), False, thing)
 
     def test_book_error(self):
-        for book in wrong_books():
+        for book in wrong.no_rulebooks():
             for thing in (((), ()), None, [], ((0,), ())):
                 with self.assertRaises(BookError):
                     fits(book, thing)

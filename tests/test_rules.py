@@ -224,23 +224,15 @@ class RulesAtASet(unittest.TestCase):
 class ErrorsAtASet(unittest.TestCase):
     functions = (remaining, violated, least)
 
-    def wrong_books(self):
-        changed = wrong.with_bools(BOOK) + wrong.with_lists(BOOK)
-        return [*wrong.other_things(), *changed, (3, (*BOOK[1], BOOK[1][0])), (0, ()), (5, ()), BOOK[1]]
-
-    def wrong_sets(self):
-        changed = wrong.with_bools((0, 1, 2)) + wrong.with_lists((0, 1, 2))
-        return [*wrong.other_things(), *changed, (3,), (-1,), (1, 0), (0, 0), (0, 1, 2, 3), ((0,),), (0, None)]
-
     def test_book_error(self):
         for function in self.functions:
-            for book in self.wrong_books():
+            for book in wrong.no_rulebooks():
                 with self.assertRaises(BookError):
                     function(book, ())
 
     def test_set_error(self):
         for function in self.functions:
-            for chosen in self.wrong_sets():
+            for chosen in wrong.no_sets():
                 with self.assertRaises(SetError):
                     function(BOOK, chosen)
                 with self.assertRaises(SetError):
@@ -255,7 +247,7 @@ class ErrorsAtASet(unittest.TestCase):
 
     def test_book_error_if_both_are_wrong(self):
         for function in self.functions:
-            for book in self.wrong_books():
+            for book in wrong.no_rulebooks():
                 for chosen in (None, (3,), [0], (True,), (1, 0)):
                     with self.assertRaises(BookError):
                         function(book, chosen)

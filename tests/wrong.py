@@ -1,6 +1,7 @@
 """Values that are none of those that the package describes."""
 
 from defaultswaps.errors import BookError, LimitError
+from tests import oracle
 
 
 def other_things():
@@ -41,3 +42,21 @@ def with_lists(value):
         for at, part in enumerate(value) for changed in with_lists(part)
     ]
     return [list(value), *inner]
+
+
+def no_rulebooks():
+    book = (3, ((0, (), (1,)), (None, (0, 1), (2,)), (1, (0,), ())))
+    every = tuple(oracle.all_rules(4))
+    return [
+        *other_things(), *with_bools(book), *with_lists(book), *with_bools((1, ((0, (), ()),))),
+        (3, (*book[1], book[1][0])), (2, ((0, (), ()), (0, (), ()))), (4, every[:101]), (4, every),
+        (0, ()), (5, ()), (1, ((1, (), ()),)), (2, ((0, (1, 0), ()),)), book[1], book[::-1], (*book, ()),
+    ]
+
+
+def no_sets():
+    """Values none of which is a set of up to three atoms."""
+    return [
+        *other_things(), *with_bools((0, 1, 2)), *with_lists((0, 1, 2)), [], (3,), (-1,), (1, 0), (0, 0),
+        (0, 1, 2, 3), ((0,),), (0, None), ("0",), (2, 1), (0, 2, 2),
+    ]
