@@ -1,6 +1,6 @@
 """Atoms, sets, rules and rulebooks, and what a set makes of the rules."""
 
-from defaultswaps.errors import AtomsError, BookError, SetError
+from defaultswaps.errors import AtomsError, BookError, LimitError, RuleError, SetError
 
 MOST_ATOMS = 4
 MOST_RULES = 100
@@ -78,6 +78,17 @@ def check_book(thing):
 def check_set(atoms, thing):
     if not is_set(atoms, thing):
         raise SetError("not a set of the atoms")
+
+
+def check_rule(atoms, thing):
+    if not has_rule_form(atoms, thing):
+        raise RuleError("not a rule for these atoms")
+
+
+def check_amount(rules):
+    """Raise an error for more rules, all of them different, than a rulebook has."""
+    if len(rules) > MOST_RULES:
+        raise LimitError(len(rules), MOST_RULES)
 
 
 def check_book_and_set(book, chosen):

@@ -14,9 +14,12 @@ def check_match(books):
 
 
 def union(first, second):
-    """Return the rules of both; they may be more than a rulebook has."""
-    added = [rule for rule in second if rule not in first]
-    return (*first, *added)
+    """Return the rules of both, each once; they may be more than a rulebook has."""
+    found = first
+    for rule in second:
+        if rule not in found:
+            found = (*found, rule)
+    return found
 
 
 def settled_beside(book, rules):
@@ -27,6 +30,11 @@ def settled_beside(book, rules):
 def tells_apart(one, other, rules, chosen):
     """Tell whether chosen is settled in just one of the rulebooks with the rules beside them."""
     return settles(union(one[1], rules), chosen) != settles(union(other[1], rules), chosen)
+
+
+def can_be_swapped(one, other):
+    check_match([one, other])
+    return pairs(one) == pairs(other)
 
 
 def compare(one, other):

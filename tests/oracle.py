@@ -4,6 +4,7 @@ Nothing here imports the package: what the tests expect does not rest on what th
 """
 
 import random
+import re
 from functools import lru_cache
 from itertools import combinations, permutations, product
 
@@ -279,3 +280,80 @@ def alike_books(many=15):
         if unused and len(rules) < 100:
             found.append(((atoms, (*rules, source.choice(unused))), book))
     return found
+
+
+def counter(book, rule):
+    for pair in all_pairs(book[0]):
+        if fits(book, pair) and not fits((book[0], (rule,)), pair):
+            return pair
+    return None
+
+
+def needless(book):
+    atoms, rules = book
+    return tuple(rule for at, rule in enumerate(rules) if pairs((atoms, rules[:at] + rules[at + 1:])) == pairs(book))
+
+
+def with_an_atom_less(rule):
+    head, holds, fails = rule
+    for atom in holds:
+        yield (head, tuple(sorted({*holds} - {atom})), fails)
+    for atom in fails:
+        yield (head, holds, tuple(sorted({*fails} - {atom})))
+
+
+def next_tidier(book):
+    """The rulebook after one step of [60], None if nothing can be left out."""
+    atoms, rules = book
+    for rule in needless(book)[:1]:
+        return (atoms, tuple(other for other in rules if other != rule))
+    for at, rule in enumerate(rules):
+        for shorter in with_an_atom_less(rule):
+            found = (atoms, (*rules[:at], shorter, *rules[at + 1:]))
+            if pairs(found) == pairs(book):
+                return found
+    return None
+
+
+def tidy_steps(book):
+    """The rulebook and what is left of it after each step of [60]."""
+    steps = []
+    while book is not None:
+        steps.append(book)
+        book = next_tidier(book)
+    return steps
+
+
+RULE_LINE = re.compile(r"(none|[0-3])(?: if ([0-3](?: [0-3])*))?(?: not ([0-3](?: [0-3])*))?")
+
+
+def book_text(book):
+    rows = [["atoms", book[0]]]
+    for head, holds, fails in book[1]:
+        rows.append([
+            "none" if head is None else head,
+            *(["if", *holds] if len(holds) > 0 else []), *(["not", *fails] if len(fails) > 0 else []),
+        ])
+    return "".join(" ".join(map(str, row)) + "\n" for row in rows)
+
+
+def read_book(text):
+    """The rulebook of a text, None if it has none."""
+    if not re.fullmatch(r"atoms [1-4]\n(?:[^\n]*\n)*", text):
+        return None
+    atoms, rules = int(text[6]), []
+    for line in text[8:].split("\n")[:-1]:
+        found = RULE_LINE.fullmatch(line)
+        if found is None:
+            return None
+        head, *sets = found.groups()
+        sets = [tuple(int(word) for word in words.split()) if words else () for words in sets]
+        head = None if head == "none" else int(head)
+        if any(list(chosen) != sorted(set(chosen)) for chosen in sets):
+            return None
+        if any(atom is not None and atom >= atoms for atom in (head, *sets[0], *sets[1])):
+            return None
+        rules.append((head, *sets))
+    if len(set(rules)) != len(rules) or len(rules) > 100:
+        return None
+    return (atoms, tuple(rules))

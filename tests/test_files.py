@@ -1,6 +1,7 @@
 """What can be seen of the files themselves, and the examples of README.md."""
 
 import ast
+import builtins
 import doctest
 import re
 import unittest
@@ -13,6 +14,27 @@ BARRED_WORDS = re.compile(
     r"|namedtuple|NamedTuple|TypedDict|TYPE_CHECKING|abstractmethod)\b|dataclass|overload|contextmanager"
 )
 BUILTINS_OVER_LISTS = ("any", "all", "min", "max", "sum", "sorted")
+# What the interface lists under each file.
+LISTED = {
+    "errors": (
+        "SwapError AtomsError BookError RuleError SetError SetsError TableError MatchError TextError AtomError"
+        " NumberError NothingError LimitError"
+    ),
+    "rules": "is_rulebook is_rule remaining violated least",
+    "settled": "settled is_settled reason shows rules_settling",
+    "pairs": "pairs fits is_table rules_of tables",
+    "swaps": "compare shows_compare apart",
+    "facts": "kernel compare_by_facts shows_by_facts settled_with",
+    "tidy": "counter needless tidy is_tidy",
+    "texts": "book_text read_book",
+    "objects": "Rules Facts Round Choice Start",
+    "desk": "Desk",
+}
+SPECIAL_METHODS = {
+    "__init__": "self", "__len__": "self", "__repr__": "self", "__enter__": "self", "__iter__": "self",
+    "__eq__": "self other", "__or__": "self other", "__sub__": "self other", "__contains__": "self x",
+    "__getitem__": "self at", "__call__": "self chosen", "__exit__": "self kind value trace",
+}
 
 
 def names_bound(tree):
@@ -72,6 +94,93 @@ class Files(unittest.TestCase):
             for node in ast.walk(tree):
                 if isinstance(node, ast.Call) and getattr(node.func, "id", "") in BUILTINS_OVER_LISTS:
                     self.assertNotIsInstance(node.args[0], ast.GeneratorExp)
+
+
+class Classes(unittest.TestCase):
+    def classes(self):
+        return [node for tree in trees() for node in ast.walk(tree) if isinstance(node, ast.ClassDef)]
+
+    def methods(self, *decorators):
+        """The functions of all classes whose decorator is one of these; None stands for no decorator."""
+        return [
+            node for found in self.classes() for node in found.body if isinstance(node, ast.FunctionDef)
+            and (ast.unparse(node.decorator_list[0]) if node.decorator_list else None) in decorators
+        ]
+
+    def stored(self):
+        return {
+            node.attr for tree in trees() for node in ast.walk(tree)
+            if isinstance(node, ast.Attribute) and isinstance(node.ctx, ast.Store)
+        }
+
+    def test_what_the_interface_lists_is_defined_in_its_file(self):
+        self.assertEqual({file.stem for file in FILES}, {"__init__", *LISTED})
+        for name, listed in LISTED.items():
+            tree = ast.parse((ROOT / "defaultswaps" / f"{name}.py").read_text("ascii"))
+            defined = {node.name for node in tree.body if isinstance(node, (ast.FunctionDef, ast.ClassDef))}
+            self.assertLessEqual(set(listed.split()), defined)
+
+    def test_special_methods(self):
+        for node in self.methods(None):
+            if node.name.startswith("__") and node.name != "__init__":
+                names = " ".join(argument.arg for argument in node.args.args)
+                self.assertEqual(names, SPECIAL_METHODS[node.name])
+
+    def test_no_name_is_used_for_two_things(self):
+        plain = {node.name for node in self.methods(None)}
+        others = {node.name for node in self.methods("staticmethod", "classmethod")}
+        properties = {node.name for node in self.methods("property")}
+        values = {"MOST"}
+        groups = [plain, others, properties, values, self.stored() - {"book"}]
+        for at, one in enumerate(groups):
+            for other in groups[:at]:
+                self.assertEqual(one & other, set())
+        self.assertEqual(plain | others | properties, {node.name for node in self.methods(
+            None, "staticmethod", "classmethod", "property", "book.setter")})
+
+    def test_the_end_of_a_block_only_puts_back(self):
+        found = [node for node in self.methods(None) if node.name == "__exit__"]
+        self.assertEqual(len(found), 1)
+        for row in found[0].body:
+            self.assertIsInstance(row, ast.Assign)
+            self.assertIsInstance(row.targets[0], ast.Attribute)
+            self.assertIsInstance(row.value, ast.Attribute)
+
+    def test_what_is_read_changes_nothing(self):
+        reading = self.methods("property") + [
+            node for node in self.methods(None)
+            if node.name in SPECIAL_METHODS and node.name not in ("__init__", "__enter__", "__exit__", "__call__")
+        ]
+        for method in reading:
+            for node in ast.walk(method):
+                self.assertNotIsInstance(node, (ast.AugAssign, ast.Delete))
+                if isinstance(node, (ast.Attribute, ast.Subscript)):
+                    self.assertIsInstance(node.ctx, ast.Load)
+
+    def test_no_name_of_a_builtin(self):
+        for tree in trees():
+            methods = [node.name for found in ast.walk(tree) if isinstance(found, ast.ClassDef) for node in found.body
+                       if isinstance(node, ast.FunctionDef)]
+            for name in names_bound(tree):
+                self.assertTrue(name in methods or not hasattr(builtins, name), name)
+
+    def test_no_name_of_a_class_or_an_import_for_another_thing(self):
+        for tree in trees():
+            taken = {node.name for node in tree.body if isinstance(node, ast.ClassDef)}
+            taken |= {alias.name for node in tree.body if isinstance(node, ast.ImportFrom) for alias in node.names}
+            for node in ast.walk(tree):
+                if isinstance(node, ast.arg):
+                    self.assertNotIn(node.arg, taken)
+                elif isinstance(node, ast.Name) and isinstance(node.ctx, ast.Store):
+                    self.assertNotIn(node.id, taken)
+
+    def test_behind_a_star_in_a_call_stands_a_name(self):
+        for tree in trees():
+            for node in ast.walk(tree):
+                if isinstance(node, ast.Call):
+                    for argument in node.args:
+                        if isinstance(argument, ast.Starred):
+                            self.assertIsInstance(argument.value, ast.Name)
 
 
 class Readme(unittest.TestCase):

@@ -46,6 +46,10 @@ class Union(Case):
         every = tuple(oracle.all_rules(4))
         self.assertEqual(union(every[:100], every[50:150]), every[:150])
 
+    def test_each_rule_once(self):
+        zero, one, two = (0, (), ()), (1, (), ()), (2, (), ())
+        self.assertEqual(union((two,), (one, zero, one, two, zero)), (two, one, zero))
+
 
 class Compare(Case):
     def test_example_of_the_overview(self):
