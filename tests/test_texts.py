@@ -120,11 +120,12 @@ class ReadBook(Case):
             "", " ", "0 ", " 0", "0  if 1", "0 if  1", "0 if 1 ", "0\tif 1", "0 if\t1", "0 if 1  not 2",
             "0 if 1 not 2 ", "0 if", "0 if ", "0 not", "0 not ", "0 if not 1", "0 if  not 1", "0 if 1 not",
             "0 not if 1", "0 not 1 if 2", "if 1", "not 1", "if", "not", " if 1", "none if", "None", "NONE",
-            "none none", "none 0", "0 none", "0 1", "0 if 1 0", "0 if 1 1", "0 not 2 1", "0 not 1 1", "0 if 0 2 1", "3", "4", "0 if 3", "0 not 3",
-            "0 if 0 3", "-1", "00", "01", "+1", "-0", "0 if 00", "0 if 01", "0 if +1", "0 if -1", "0 not 02",
-            "0 if 1, 2", "0 if 1,2", "0 if 12", "0 if none", "0 not none", "0 if 1 if 2", "0 not 1 not 2", "0 if 1 not 2 not 2",
-            "0 if 1 and 2", "0 IF 1", "0 If 1", "0 NOT 1", "0 if 1 not 2.", "0.", "1.0", "0 if 1 not 2 if 1", "(0, (), ())", "0if 1",
-            "0 if1", "0 if 1not 2", "atoms 3", "x", "0 if x", "0 not x", "0 if 1 x",
+            "none none", "none 0", "0 none", "0 1", "0 if 1 0", "0 if 1 1", "0 not 2 1", "0 not 1 1", "0 if 0 2 1",
+            "3", "4", "0 if 3", "0 not 3", "0 if 0 3", "-1", "00", "01", "+1", "-0", "0 if 00", "0 if 01", "0 if +1",
+            "0 if -1", "0 not 02", "0 if 1, 2", "0 if 1,2", "0 if 12", "0 if none", "0 not none", "0 if 1 if 2",
+            "0 not 1 not 2", "0 if 1 not 2 not 2", "0 if 1 and 2", "0 IF 1", "0 If 1", "0 NOT 1", "0 if 1 not 2.",
+            "0.", "1.0", "0 if 1 not 2 if 1", "(0, (), ())", "0if 1", "0 if1", "0 if 1not 2", "atoms 3", "x",
+            "0 if x", "0 not x", "0 if 1 x",
         ):
             self.assert_error(TextError, read_book, f"atoms 3\n{line}\n")
             self.assert_error(TextError, read_book, f"atoms 3\n1\n{line}\n")
