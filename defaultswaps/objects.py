@@ -150,13 +150,12 @@ class Start(Facts, Round):
     """Facts, and behind them the rules by which each of the members brings all others."""
 
     def __init__(self, atoms, *members, facts=()):
-        check_members(atoms, members)
+        # Not that of Facts, too: it would take the members for the facts.
+        Round.__init__(self, atoms, *members)
+        # Behind the members: their errors come first.
         check_set(atoms, facts)
-        self.ordered = tuple(sorted(members))
         self.given = facts
-        rules = facts_of(facts) + round_of(self.ordered)
-        # Not that of Facts or Round: each of them takes the members for its own rules alone.
-        Rules.__init__(self, atoms, *rules)
+        self.rows = facts_of(facts) + self.rows
 
     @property
     def members(self):

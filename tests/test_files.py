@@ -51,6 +51,27 @@ def trees():
     return [ast.parse(file.read_text("ascii"), file.name) for file in FILES]
 
 
+def starts_outside_the_bases(node, bases=None):
+    """The rows where `__init__` is read off anything but super() or a base that the class statement around names."""
+    if isinstance(node, ast.ClassDef):
+        bases = [base.id for base in node.bases if isinstance(base, ast.Name)]
+    if isinstance(node, ast.Call) and isinstance(node.func, ast.Attribute) and node.func.attr == "__init__":
+        parts = node.args + node.keywords
+        if not is_start_of_a_base(node, bases or []):
+            parts = [node.func, *parts]
+    else:
+        parts = ast.iter_child_nodes(node)
+    found = [node.lineno] if isinstance(node, ast.Attribute) and node.attr == "__init__" else []
+    return found + [row for part in parts for row in starts_outside_the_bases(part, bases)]
+
+
+def is_start_of_a_base(call, bases):
+    if ast.unparse(call.func.value) == "super()":
+        return True
+    own_object_first = len(call.args) > 0 and ast.unparse(call.args[0]) == "self"
+    return ast.unparse(call.func.value) in bases and own_object_first
+
+
 def is_plain(name):
     return not name.startswith("_") or (name.startswith("__") and name.endswith("__"))
 
@@ -137,6 +158,28 @@ class Classes(unittest.TestCase):
                 self.assertEqual(one & other, set())
         self.assertEqual(plain | others | properties, {node.name for node in self.methods(
             None, "staticmethod", "classmethod", "property", "book.setter")})
+
+    def test_the_start_of_a_base_is_that_of_super_or_of_a_base_named_by_the_class(self):
+        for file, tree in zip(FILES, trees()):
+            self.assertEqual(starts_outside_the_bases(tree), [], file)
+
+    def test_the_start_of_a_base_in_other_rows(self):
+        """What the test above is made of sees the rows that it is there for."""
+        for head, row, allowed in (
+            ("C(A, B)", "A.__init__(self, k)", True), ("C(A, B)", "B.__init__(self, *ks)", True),
+            ("C(A)", "super().__init__(k)", True), ("C", "super().__init__()", True),
+            ("C(A, B)", "Top.__init__(self, k)", False), ("C(A)", "C.__init__(self, k)", False),
+            ("C", "A.__init__(self)", False), ("C(A)", "self.__init__(k)", False),
+            ("C(A)", "A.__init__(k, self)", False), ("C(A)", "A.__init__()", False),
+            ("C(A)", "k.A.__init__(self)", False), ("C(A)", "start = A.__init__", False),
+            ("C(A)", "A.__init__(self, Top.__init__(self))", False),
+            ("C(A)", "A.__init__(self, k=Top.__init__)", False),
+        ):
+            tree = ast.parse(f"class {head}:\n    def __init__(self, k, *ks):\n        {row}\n")
+            self.assertEqual(starts_outside_the_bases(tree), [] if allowed else [3], row)
+        self.assertEqual(starts_outside_the_bases(ast.parse("class C(A):\n    K = 1\nA.__init__(self)\n")), [3])
+        beside = "class B(A):\n    K = 1\nclass C(B):\n    def __init__(self):\n        A.__init__(self)\n"
+        self.assertEqual(starts_outside_the_bases(ast.parse(beside)), [5])
 
     def test_the_end_of_a_block_only_puts_back(self):
         found = [node for node in self.methods(None) if node.name == "__exit__"]
